@@ -1,0 +1,1 @@
+"""Carpetkin: carpets without end, their kin, and how to mend them."""

@@ -15,6 +15,18 @@ ARGUMENTS = {
         "is_movement": "side thing", "all_movements": "side", "led": "side movement place", "then": "side one other",
         "taken_back": "side movement", "order_of": "side movement", "moved": "carpet movement", "ways_table": "",
     },
+    "groups": {"made": "side movements"},
+    "motifs": {
+        "Motif": "", "Plain": "rows", "Named": "name", "Beside": "parts", "Above": "parts", "Across": "many part",
+        "Down": "many part", "Turned": "way part", "Dyed": "one other part",
+    },
+    "programs": {"read": "text", "read_motif": "text", "shown": "program"},
+    "knotting": {"sizes": "program", "knotted": "program", "counted": "program"},
+}
+MOTIFS = ("Plain", "Named", "Beside", "Above", "Across", "Down", "Turned", "Dyed")
+METHODS = {
+    "text": "self", "deep": "self", "names": "self", "size": "self known row", "cloth": "self known",
+    "counts": "self known", "put": "self name motif",
 }
 
 
@@ -25,6 +37,14 @@ class Interface(unittest.TestCase):
             for name, arguments in functions.items():
                 with self.subTest(module + "." + name):
                     self.assertEqual(list(inspect.signature(getattr(found, name)).parameters), arguments.split())
+
+    def test_methods_of_motifs(self):
+        motifs = importlib.import_module("carpetkin.motifs")
+        for kind in MOTIFS:
+            for name, arguments in METHODS.items():
+                with self.subTest(kind + "." + name):
+                    found = getattr(getattr(motifs, kind), name)
+                    self.assertEqual(list(inspect.signature(found).parameters), arguments.split())
 
 
 if __name__ == "__main__":

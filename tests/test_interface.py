@@ -22,6 +22,13 @@ ARGUMENTS = {
     },
     "programs": {"read": "text", "read_motif": "text", "shown": "program"},
     "knotting": {"sizes": "program", "knotted": "program", "counted": "program"},
+    "folds": {"unfolded": "fold", "cost": "fold", "folded": "line", "shown_fold": "fold", "read_fold": "text"},
+    "weavings": {
+        "unwoven": "weaving", "weaving_cost": "weaving", "woven": "cloth", "shown_weaving": "weaving",
+        "read_weaving": "text",
+    },
+    "leaving": {"leaves": "carpet movement", "unlike_at": "carpet movement", "leaving": "carpet"},
+    "fewest": {"few_of": "n movements", "row_to": "n movements movement", "rows_to": "n movements"},
 }
 MOTIFS = ("Plain", "Named", "Beside", "Above", "Across", "Down", "Turned", "Dyed")
 METHODS = {

@@ -29,6 +29,13 @@ ARGUMENTS = {
     },
     "leaving": {"leaves": "carpet movement", "unlike_at": "carpet movement", "leaving": "carpet"},
     "fewest": {"few_of": "n movements", "row_to": "n movements movement", "rows_to": "n movements"},
+    "cells": {"least_cell": "carpet", "drawn": "n cell", "is_cell": "carpet cell"},
+    "circles": {"circles": "n movements", "seeds": "carpet", "grown": "n movements some"},
+    "bends": {"is_mirror": "n wide", "stand_of": "n wide"},
+    "kinds": {
+        "turn_of": "movements", "bends_of": "movements", "mirrors_of": "n movements", "loose_of": "n movements",
+        "kind_of": "n movements", "kind": "carpet",
+    },
 }
 MOTIFS = ("Plain", "Named", "Beside", "Above", "Across", "Down", "Turned", "Dyed")
 METHODS = {

@@ -36,6 +36,12 @@ ARGUMENTS = {
         "turn_of": "movements", "bends_of": "movements", "mirrors_of": "n movements", "loose_of": "n movements",
         "kind_of": "n movements", "kind": "carpet",
     },
+    "forms": {
+        "least_form": "carpet", "dyed": "carpet dyeing", "dyed_in_order": "carpet", "form_by_colours": "carpet",
+    },
+    "kin": {"kin": "one other", "kin_by_colours": "one other", "nearest": "one other"},
+    "rounds": {"rounds": "side movement", "count_of": "side colours", "left_by": "side colours wish"},
+    "numbers": {"all_forms": "side colours", "number_of": "carpet colours", "carpet_of": "side colours number"},
 }
 MOTIFS = ("Plain", "Named", "Beside", "Above", "Across", "Down", "Turned", "Dyed")
 METHODS = {

@@ -42,6 +42,13 @@ ARGUMENTS = {
     "kin": {"kin": "one other", "kin_by_colours": "one other", "nearest": "one other"},
     "rounds": {"rounds": "side movement", "count_of": "side colours", "left_by": "side colours wish"},
     "numbers": {"all_forms": "side colours", "number_of": "carpet colours", "carpet_of": "side colours number"},
+    "mending": {"mended": "carpet wish", "mended_towards": "carpet other wish"},
+    "betters": {"bettered": "carpet most"},
+    "lines": {
+        "shown_movement": "movement", "shown_movements": "movements", "movement_of": "side word",
+        "movements_of": "side word", "written_number": "word",
+    },
+    "desk": {"Desk": ""},
 }
 MOTIFS = ("Plain", "Named", "Beside", "Above", "Across", "Down", "Turned", "Dyed")
 METHODS = {
@@ -65,6 +72,10 @@ class Interface(unittest.TestCase):
                 with self.subTest(kind + "." + name):
                     found = getattr(getattr(motifs, kind), name)
                     self.assertEqual(list(inspect.signature(found).parameters), arguments.split())
+
+    def test_methods_of_the_desk(self):
+        desk = importlib.import_module("carpetkin.desk")
+        self.assertEqual(list(inspect.signature(desk.Desk.say).parameters), ["self", "row"])
 
 
 if __name__ == "__main__":

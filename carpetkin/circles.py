@@ -21,17 +21,23 @@ def circle_from(n, movements, place):
     return sorted(waiting)
 
 
-def circles(n, movements):
+# Parts all places into lists, each found from its first place on; leading is
+# what leads them, places_from finds a list.
+def parted(n, leading, places_from):
     told = []
     known = {}
     for r in range(n):
         for c in range(n):
             if (r, c) not in known:
-                circle = circle_from(n, movements, (r, c))
-                told.append(circle)
-                for place in circle:
+                places = places_from(n, leading, (r, c))
+                told.append(places)
+                for place in places:
                     known[place] = True
     return told
+
+
+def circles(n, movements):
+    return parted(n, movements, circle_from)
 
 
 def seeds(carpet):

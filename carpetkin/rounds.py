@@ -1,6 +1,6 @@
 """Rounds of a movement, and how many carpets there are (9.1 to 9.3)."""
 
-from carpetkin.circles import circles
+from carpetkin.circles import circles, parted
 from carpetkin.movements import all_movements, led
 
 
@@ -14,16 +14,7 @@ def round_from(side, movement, place):
 
 
 def rounds(side, movement):
-    told = []
-    known = {}
-    for r in range(side):
-        for c in range(side):
-            if (r, c) not in known:
-                places = round_from(side, movement, (r, c))
-                told.append(places)
-                for place in places:
-                    known[place] = True
-    return told
+    return parted(side, movement, round_from)
 
 
 def times_itself(number, many):

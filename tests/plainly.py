@@ -115,7 +115,8 @@ def any_motif(chance, names, deep):
         return "[" + "/".join("".join(chance.choice("abc") for c in range(knots)) for r in range(rows)) + "]"
     part = any_motif(chance, names, deep - 1)
     if kind <= 3:
-        parts = [part] + [chance.choice((part, any_motif(chance, names, deep - 1))) for k in range(chance.randrange(1, 4))]
+        parts = [part] + [chance.choice((part, any_motif(chance, names, deep - 1))) for k in range(chance.randrange(1,
+                                                                                                                    4))]
         return chance.choice(("beside", "above")) + "(" + ", ".join(parts) + ")"
     if kind <= 5:
         return f"{chance.choice(('across', 'down'))}({chance.randrange(1, 5)}, {part})"

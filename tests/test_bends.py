@@ -48,7 +48,8 @@ class Mirrors(unittest.TestCase):
     def test_as_it_is_told(self):
         for n in SIDES:
             for way, down, right in wides(n):
-                wanted = {"side": down == 0, "flip": right == 0, "cross": down + right in (0, 2 * n), "other": down == right}
+                wanted = {"side": down == 0, "flip": right == 0, "cross": down + right in (0, 2 * n),
+                          "other": down == right}
                 self.assertIs(is_mirror(n, (way, down, right)), wanted[way])
 
 

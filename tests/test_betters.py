@@ -70,7 +70,8 @@ class Bettered(unittest.TestCase):
                 self.check(carpet, most)
 
     def test_side_3_against_all_wishes(self):
-        carpets = (*DRAWN[5:10], *some_carpets(3, "ab", 6), *some_carpets(3, "abc", 6), *some_carpets(3, "abcdefghi", 4))
+        carpets = (*DRAWN[5:10], *some_carpets(3, "ab", 6), *some_carpets(3, "abc", 6), *some_carpets(3, "abcdefghi",
+                                                                                                      4))
         for carpet in carpets:
             for most in range(10):
                 self.check(carpet, most)

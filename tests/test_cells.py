@@ -73,7 +73,8 @@ class IsCell(unittest.TestCase):
     def test_the_first_rows_and_knots_alone_are_not_enough(self):
         for carpet, cell in ((("ab", "ab"), (("ab", "ab", "xx"), 0)), (("ab", "ab"), (("aba",), 0)),
                              (("aa", "aa"), (("aa", "aa", "ab"), 0)), (("ab", "ba"), (("abx", "bax"), 0)),
-                             (("ab", "ba"), (("ab", "ba", "ab"), 0)), (("abb", "abb", "abb"), (("abb", "abb", "abb"), 1)),
+                             (("ab", "ba"), (("ab", "ba", "ab"), 0)), (("abb", "abb", "abb"), (("abb", "abb", "abb"),
+                                                                                               1)),
                              (("ab", "cd"), (("ab", "cd"), 1)), (("aab", "aab", "aab"), (("aabaabab",) * 3, 0))):
             with self.subTest((carpet, cell)):
                 self.assertEqual(drawn(len(carpet), cell), carpet)

@@ -11,7 +11,8 @@ from carpets import DRAWN, carpets_of, some_carpets
 
 LISTS = (
     (1, []), (2, []), (3, []), (8, []), (3, [("stay", 0, 0)]), (3, [("stay", 0, 1)]), (4, [("turn", 0, 0)]),
-    (4, [("half", 1, 0), ("side", 0, 3)]), (5, [("cross", 2, 3), ("stay", 1, 1)]), (6, [("stay", 2, 3), ("flip", 1, 0)]),
+    (4, [("half", 1, 0), ("side", 0, 3)]), (5, [("cross", 2, 3), ("stay", 1, 1)]), (6, [("stay", 2, 3), ("flip", 1,
+                                                                                                         0)]),
     (2, [("turn", 1, 0), ("turn", 1, 0)]), (8, [("turn", 3, 4), ("stay", 4, 4)]), (3, all_movements(3)),
 )
 

@@ -246,7 +246,8 @@ class Written(unittest.TestCase):
         self.assertEqual(read_cloth("/".join(["b" * 24] * 24)), ("b" * 24,) * 24)
 
     def test_what_is_no_text(self):
-        for thing in (None, True, 0, 7, b"ab", b"", ("ab", "cd"), ["ab"], {}, (), ["a", "/", "b"], object(), Anything()):
+        for thing in (None, True, 0, 7, b"ab", b"", ("ab", "cd"), ["ab"], {}, (), ["a", "/", "b"], object(),
+                      Anything()):
             with self.subTest(repr(thing)):
                 self.assertRaises(NoCloth, read_cloth, thing)
 

@@ -2,7 +2,7 @@ import unittest
 
 from carpetkin.betters import bettered
 from carpetkin.cells import least_cell
-from carpetkin.cloths import read_cloth, shown_cloth
+from carpetkin.cloths import is_carpet, read_cloth, shown_cloth
 from carpetkin.desk import Desk
 from carpetkin.errors import (
     CarpetError, Misfit, NoCarpet, NoColour, NoName, NoNumber, NoRow, NoText, Nobody, TooLarge, TooWide, Unlike,
@@ -142,7 +142,8 @@ class Asking(unittest.TestCase):
 
     def test_of_two(self):
         for one in CARPETS[:16]:
-            for other in (*CARPETS[:16], moved(one, ("turn", 0, len(one) - 1)), tuple(row.replace("a", "z") for row in one)):
+            for other in (*CARPETS[:16], moved(one, ("turn", 0, len(one) - 1)), tuple(row.replace("a",
+                                                                                                  "z") for row in one)):
                 desk = desk_with(one=shown_cloth(one), other=shown_cloth(other))
                 movement = kin(one, other)
                 by_colours = kin_by_colours(one, other)
@@ -178,7 +179,8 @@ class Asking(unittest.TestCase):
 
 class Refusals(unittest.TestCase):
     def setUp(self):
-        self.cloths = {"two": "ab/bb", "three": "abc/def/ghi", "four": "abcd/efgh/ijkl/mnop", "line": "ab", "nine": "/".join(["a" * 9] * 9)}
+        self.cloths = {"two": "ab/bb", "three": "abc/def/ghi", "four": "abcd/efgh/ijkl/mnop", "line": "ab",
+                       "nine": "/".join(["a" * 9] * 9)}
         self.desk = desk_with(**self.cloths)
 
     def refused(self, kind, row):
@@ -197,39 +199,56 @@ class Refusals(unittest.TestCase):
             self.refused(NoRow, thing)
 
     def test_no_row(self):
-        for row in ("", " ", "two", "show", "show ", "show  two", " show two", "show two ", "show two two", "Show two", "show\ttwo",
-                    "show Two", "show two1", "show abcdefghi", "show a-b", "say two", "weave", "weave two two", "cost", "leaves",
-                    "leaves two two", "few", "kind", "cell", "kin", "kin two", "kin two two two", "kin two ", "kin  two two", "dyekin two",
-                    "near two", "near two two two", "number two", "number two 2 2", "carpet", "carpet new", "carpet new 2",
-                    "carpet new 2 2", "carpet new 2 2 1 1", "count", "count 2", "count 2 2 2", "mend two", "mend two ", "mend two - -",
-                    "mend two  -", "mend", "better two", "better two 1 1", "better", "lay", "lay new", "lay new ", "lay  new a",
-                    "lay new  a", "lay new a ", "lay new a b", "lay New a", "lay abcdefghi a", "lay new ab/c", "lay new A", "lay new a/",
-                    "lay new " + "a" * 25, "lay  a", "knot", "knot new", "knot  knot [a]", "knot  new knot [a]", "knot New knot [a]",
-                    "knot abcdefghi knot [a]", "knot new1 knot [a]", "undo", "help", "show two\n", "\nshow two", "lay new a\n",
+        for row in ("", " ", "two", "show", "show ", "show  two", " show two", "show two ", "show two two",
+                    "Show two", "show\ttwo",
+                    "show Two", "show two1", "show abcdefghi", "show a-b", "say two", "weave", "weave two two",
+                    "cost", "leaves",
+                    "leaves two two", "few", "kind", "cell", "kin", "kin two", "kin two two two", "kin two ",
+                    "kin  two two", "dyekin two",
+                    "near two", "near two two two", "number two", "number two 2 2", "carpet", "carpet new",
+                    "carpet new 2",
+                    "carpet new 2 2", "carpet new 2 2 1 1", "count", "count 2", "count 2 2 2", "mend two",
+                    "mend two ", "mend two - -",
+                    "mend two  -", "mend", "better two", "better two 1 1", "better", "lay", "lay new", "lay new ",
+                    "lay  new a",
+                    "lay new  a", "lay new a ", "lay new a b", "lay New a", "lay abcdefghi a", "lay new ab/c",
+                    "lay new A", "lay new a/",
+                    "lay new " + "a" * 25, "lay  a", "knot", "knot new", "knot  knot [a]", "knot  new knot [a]",
+                    "knot New knot [a]",
+                    "knot abcdefghi knot [a]", "knot new1 knot [a]", "undo", "help", "show two\n", "\nshow two",
+                    "lay new a\n",
                     "knot new let a = [a]\nknot a", "knot new knot [a]\n", "show\ntwo"):
             self.refused(NoRow, row)
 
     def test_numbers_out_of_bounds(self):
-        for row in ("number two 0", "number two 27", "number two 02", "number two x", "number two -1", "number two ", "number two 2.0",
-                    "carpet new 0 2 0", "carpet new 9 2 0", "carpet new 2 0 0", "carpet new 2 27 0", "carpet new 02 2 0",
-                    "carpet new 2 2 00", "carpet new 2 2 10000", "carpet new 2 2 -1", "carpet new 2 2 x", "carpet New 2 2 1",
-                    "carpet abcdefghi 2 2 1", "count 0 2", "count 9 2", "count 2 0", "count 2 27", "count 02 2", "count 2 x",
-                    "better two 10", "better two 00", "better two 01", "better two -1", "better two x", "better two 9999"):
+        for row in ("number two 0", "number two 27", "number two 02", "number two x", "number two -1", "number two ",
+                    "number two 2.0",
+                    "carpet new 0 2 0", "carpet new 9 2 0", "carpet new 2 0 0", "carpet new 2 27 0",
+                    "carpet new 02 2 0",
+                    "carpet new 2 2 00", "carpet new 2 2 10000", "carpet new 2 2 -1", "carpet new 2 2 x",
+                    "carpet New 2 2 1",
+                    "carpet abcdefghi 2 2 1", "count 0 2", "count 9 2", "count 2 0", "count 2 27", "count 02 2",
+                    "count 2 x",
+                    "better two 10", "better two 00", "better two 01", "better two -1", "better two x",
+                    "better two 9999"):
             self.refused(NoRow, row)
 
     def test_nobody(self):
-        for row in ("show new", "weave new", "cost new", "leaves new", "few new", "kind new", "cell new", "kin new two", "kin two new",
-                    "dyekin new two", "dyekin two new", "near new two", "near two new", "number new 2", "mend new -", "better new 3",
+        for row in ("show new", "weave new", "cost new", "leaves new", "few new", "kind new", "cell new",
+                    "kin new two", "kin two new",
+                    "dyekin new two", "dyekin two new", "near new two", "near two new", "number new 2", "mend new -",
+                    "better new 3",
                     "kin new new"):
             self.refused(Nobody, row)
 
     def test_no_row_ahead_of_nobody(self):
-        for row in ("number new 0", "better new 10", "kin new Two", "show new two", "mend new"):
+        for row in ("number new 0", "better new 10", "kin new Two", "show new two", "mend new", "mend new "):
             self.refused(NoRow, row)
 
     def test_no_carpet(self):
         for name in ("line", "nine"):
-            for row in ("leaves {}", "few {}", "kind {}", "cell {}", "kin {} two", "kin two {}", "dyekin {} two", "dyekin two {}",
+            for row in ("leaves {}", "few {}", "kind {}", "cell {}", "kin {} two", "kin two {}", "dyekin {} two",
+                        "dyekin two {}",
                         "near {} two", "near two {}", "number {} 2", "mend {} -", "better {} 3", "kin {} {}"):
                 self.refused(NoCarpet, row.format(name, name))
 
@@ -242,7 +261,8 @@ class Refusals(unittest.TestCase):
             self.refused(NoRow, row)
 
     def test_a_wish_is_looked_at_behind_these(self):
-        for wish in ("x", "stay.2.0", "stay.0.0,", ",", "--", "stay.0.0;stay.0.0", "turn.0", "stay.00.0", ",".join(["stay.0.0"] * 13)):
+        for wish in ("x", "stay.2.0", "stay.0.0,", ",", "--", "stay.0.0;stay.0.0", "turn.0", "stay.00.0",
+                     ",".join(["stay.0.0"] * 13)):
             self.refused(Nobody, f"mend new {wish}")
             self.refused(NoCarpet, f"mend line {wish}")
             self.refused(NoRow, f"mend two {wish}")
@@ -251,10 +271,14 @@ class Refusals(unittest.TestCase):
         self.refused(NoRow, "mend two stay.0.2")
 
     def test_no_text_of_a_program(self):
-        for text, row in (("", 0), (" ", 0), ("   ", 0), ("knot", 0), ("knot ", 0), (" knot [a]", 0), ("knot [a] ", 0), ("[a]", 0),
-                          ("let a = [a]", 0), ("let a = [a] | let b = a", 1), ("let a = [a]|knot a", 0), ("let a = [a] |knot a", 0),
-                          ("let a = [a]  | knot a", 0), ("let a = [a] |  knot a", 1), ("knot [a] | ", 0), (" | knot [a]", 0),
-                          ("let a = [a] |  | knot a", 1), ("let a = [a] | | knot a", 1), ("knot [a] | knot [a]", 0), ("|", 0), (" | ", 0)):
+        for text, row in (("", 0), (" ", 0), ("   ", 0), ("knot", 0), ("knot ", 0), (" knot [a]", 0), ("knot [a] ",
+                                                                                                       0), ("[a]", 0),
+                          ("let a = [a]", 0), ("let a = [a] | let b = a", 1), ("let a = [a]|knot a", 0),
+                          ("let a = [a] |knot a", 0),
+                          ("let a = [a]  | knot a", 0), ("let a = [a] |  knot a", 1), ("knot [a] | ", 0),
+                          (" | knot [a]", 0),
+                          ("let a = [a] |  | knot a", 1), ("let a = [a] | | knot a", 1), ("knot [a] | knot [a]", 0),
+                          ("|", 0), (" | ", 0)):
             self.assertEqual(self.refused(NoText, "knot new " + text).row, row)
         rows = ["let a = [a]"] * 40 + ["knot a"]
         self.assertEqual(self.refused(NoText, "knot two " + " | ".join(rows)).row, 40)
@@ -278,7 +302,41 @@ class Refusals(unittest.TestCase):
         self.assertEqual(self.refused(TooLarge, "better four 3").many, 16)
 
 
+def outcome(ask):
+    try:
+        return ask()
+    except CarpetError as refused:
+        return (refused.__class__.__name__, vars(refused))
+
+
 class TheWhole(unittest.TestCase):
+    def check_alike(self, desk, cloth):
+        side = len(cloth)
+        left = leaving(cloth)
+        wish = all_movements(side)[::5 * side][:12]
+        self.assertEqual(unwoven(read_weaving(desk.say("weave rug"))), cloth)
+        self.assertEqual(desk.say("leaves rug"), str(len(left)))
+        self.assertEqual(movements_of(side, desk.say("few rug")), few_of(side, left))
+        self.assertEqual(desk.say("kind rug"), kind(cloth)[0])
+        self.assertEqual(outcome(lambda: desk.say("number rug 3")), outcome(lambda: str(number_of(cloth, 3))))
+        self.assertEqual(desk.say(f"mend rug {shown_movements(wish)}"), str(len(mended(cloth, wish)[1])))
+        self.assertEqual(desk.say("show rug"), shown_cloth(mended(cloth, wish)[0]))
+
+    def test_programs_by_the_desk_and_by_the_functions_alike(self):
+        tried = 0
+        for text in many_programs(900):
+            desk = Desk()
+            said = outcome(lambda: desk.say("knot rug " + text.replace("\n", " | ")))
+            cloth = outcome(lambda: knotted(read(text)))
+            if isinstance(said, tuple):
+                self.assertEqual(said, cloth)
+                continue
+            self.assertEqual(desk.say("show rug"), shown_cloth(cloth))
+            if is_carpet(cloth):
+                tried += 1
+                self.check_alike(desk, cloth)
+        self.assertGreater(tried, 50)
+
     def test_a_program_from_its_text_to_its_mending(self):
         text = "let a = [ab/bb]\nlet b = dye(a, b, turn(a))\nknot beside(above(a, [aa]), flip([b/a/b]))"
         program = read(text)

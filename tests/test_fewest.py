@@ -9,7 +9,8 @@ from carpets import DRAWN, some_carpets
 
 STAY = ("stay", 0, 0)
 CLOSED = [(side, all_movements(side)) for side in range(1, 9)]
-CLOSED += [(len(carpet), leaving(carpet)) for carpet in (*DRAWN, *some_carpets(2, "ab", 12), *some_carpets(3, "ab", 20))]
+CLOSED += [(len(carpet), leaving(carpet)) for carpet in (*DRAWN, *some_carpets(2, "ab", 12), *some_carpets(3, "ab",
+                                                                                                           20))]
 LISTS = (
     (1, []), (3, []), (2, [STAY]), (2, [STAY, STAY, ("turn", 0, 1)]), (4, [("side", 1, 0), ("side", 1, 0)]),
     (5, [("stay", 1, 3), ("turn", 0, 0)]), (6, [("flip", 0, 1), STAY, ("stay", 2, 2), ("half", 1, 0)]),
@@ -32,7 +33,8 @@ class Few(unittest.TestCase):
 
     def test_by_hand(self):
         self.assertEqual(few_of(1, all_movements(1)), [("back", 0, 0), ("cross", 0, 0)])
-        self.assertEqual(few_of(2, [STAY, ("stay", 0, 1), ("stay", 1, 0), ("stay", 1, 1)]), [("stay", 0, 1), ("stay", 1, 0)])
+        self.assertEqual(few_of(2, [STAY, ("stay", 0, 1), ("stay", 1, 0), ("stay", 1, 1)]), [("stay", 0, 1), ("stay",
+                                                                                                              1, 0)])
         self.assertEqual(few_of(3, [STAY, ("stay", 0, 1), ("stay", 0, 2)]), [("stay", 0, 1)])
 
     def test_gone_through_from_the_first_on(self):

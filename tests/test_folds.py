@@ -62,7 +62,8 @@ class Unfolded(unittest.TestCase):
     def test_agains(self):
         inner = [("run", "a", 2), ("run", "b", 1)]
         self.assertEqual(unfolded([("again", 3, inner)]), "aabaabaab")
-        self.assertEqual(unfolded([("run", "c", 1), ("again", 2, [("again", 2, inner), ("run", "d", 1)])]), "caabaabdaabaabd")
+        self.assertEqual(unfolded([("run", "c", 1), ("again", 2, [("again", 2, inner), ("run", "d", 1)])]),
+                         "caabaabdaabaabd")
         self.assertEqual(unfolded(nested(4)), "a" * 16)
         self.assertEqual(unfolded(nested(12)), "a" * 4096)
 
@@ -112,7 +113,8 @@ class Folded(unittest.TestCase):
             self.check(line, least)
 
     def test_some_by_hand(self):
-        for line, least in (("a", 1), ("a" * 24, 1), ("ab" * 12, 3), ("aab" * 8, 3), ("ababab" + "c", 4), ("abcabcabc", 4),
+        for line, least in (("a", 1), ("a" * 24, 1), ("ab" * 12, 3), ("aab" * 8, 3), ("ababab" + "c", 4),
+                            ("abcabcabc", 4),
                             ("abababcababab", 7), ("aabbaabbaabbaabbaabbaabb", 3), ("abcdefghijklmnopqrstuvwx", 24),
                             ("abababc" * 3 + "aba", 8), ("aabaabcaabaabc", 5), ("abab", 3), ("abababab" + "ba" * 8, 6)):
             with self.subTest(line):
@@ -173,9 +175,12 @@ class Written(unittest.TestCase):
             self.assertIsInstance(refused.exception, CarpetError)
 
     def test_none(self):
-        for text in ("", " ", "a1", "a01", "a02", "a0", "a00", "(a)", "(a)0", "(a)1", "(a)01", "(a)02", "()2", "( )2", "()",
-                     " a", "a ", "a  b", "ab", "a2b", "a 2", "( a)2", "(a )2", "(a) 2", "(a b)2c", "(a)2(b)2", "(a", "a)",
-                     "a)2", "((a)2", "(a)2)2", "(a]2", "[a]", "[a]2", "{a}2", "A", "1", "2a", "a-1", "a+2", "a2.0", "a,b",
+        for text in ("", " ", "a1", "a01", "a02", "a0", "a00", "(a)", "(a)0", "(a)1", "(a)01", "(a)02", "()2", "( )2",
+                     "()",
+                     " a", "a ", "a  b", "ab", "a2b", "a 2", "( a)2", "(a )2", "(a) 2", "(a b)2c", "(a)2(b)2", "(a",
+                     "a)",
+                     "a)2", "((a)2", "(a)2)2", "(a]2", "[a]", "[a]2", "{a}2", "A", "1", "2a", "a-1", "a+2", "a2.0",
+                     "a,b",
                      "a\n", "\na", "a\tb", "a/b", "a'", "(a)2\n", "`", "{", "(2", "a(b)2", "a2 (b)"):
             self.refused(text)
 

@@ -5,7 +5,9 @@ from carpetkin.movements import all_movements, is_movement, moved
 
 from carpets import DRAWN, carpets_of, some_carpets
 
-CARPETS = (*DRAWN, *carpets_of(2, "abc"), *some_carpets(3, "abc", 20), *some_carpets(4, "az", 6), *some_carpets(8, "qrs", 2))
+CARPETS = (*DRAWN, *carpets_of(2, "abc"), *some_carpets(3, "abc", 20), *some_carpets(4, "az", 6), *some_carpets(8,
+                                                                                                                "qrs",
+                                                                                                                2))
 
 
 def in_order(carpet):
@@ -60,7 +62,8 @@ class DyedInOrder(unittest.TestCase):
         self.assertEqual(dyed_in_order(("q",)), (("a",), [("q", "a")]))
         self.assertEqual(dyed_in_order(("ba", "cb")), (("ab", "ca"), [("a", "b"), ("b", "a"), ("c", "c")]))
         self.assertEqual(dyed_in_order(("zy", "yx")), (("ab", "bc"), [("x", "c"), ("y", "b"), ("z", "a")]))
-        self.assertEqual(dyed_in_order(("aab", "bca", "aaa")), (("aab", "bca", "aaa"), [("a", "a"), ("b", "b"), ("c", "c")]))
+        self.assertEqual(dyed_in_order(("aab", "bca", "aaa")), (("aab", "bca", "aaa"), [("a", "a"), ("b", "b"), ("c",
+                                                                                                                 "c")]))
 
     def test_first_met_row_by_row(self):
         for carpet in CARPETS:

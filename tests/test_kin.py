@@ -10,7 +10,8 @@ from carpets import carpets_of, some_carpets
 
 OF_TWO = carpets_of(2, "ab") + carpets_of(2, "ac")
 OF_THREE = carpets_of(3, "ab")[::23] + some_carpets(3, "abc", 12) + [("abc", "bca", "cab"), ("acb", "cba", "bac")]
-UNLIKE_SIDES = ((("a",), ("aa", "aa")), (("aa", "aa"), ("a",)), (("aaa",) * 3, ("aa",) * 2), (("a" * 8,) * 8, ("a" * 7,) * 7))
+UNLIKE_SIDES = ((("a",), ("aa", "aa")), (("aa", "aa"), ("a",)), (("aaa",) * 3, ("aa",) * 2), (("a" * 8,) * 8,
+                                                                                              ("a" * 7,) * 7))
 
 
 def pairs():

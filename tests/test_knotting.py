@@ -20,7 +20,8 @@ def refusal_of(error):
 
 class Knotted(unittest.TestCase):
     def test_by_hand(self):
-        text = "let rose = [ab/cd]\nlet wide = beside(rose, side(rose))\nagain 2 wide = above(wide, flip(wide))\nknot wide"
+        text = ("let rose = [ab/cd]\nlet wide = beside(rose, side(rose))\n"
+                "again 2 wide = above(wide, flip(wide))\nknot wide")
         program = read(text)
         self.assertEqual(sizes(program), [(2, 2), (2, 4), (4, 4), (8, 4), (8, 4)])
         self.assertEqual(knotted(program), ("abba", "cddc", "cddc", "abba", "abba", "cddc", "cddc", "abba"))

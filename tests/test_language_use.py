@@ -103,7 +103,8 @@ def faults_of_locals(tree):
     for node in ast.walk(tree):
         if isinstance(node, ast.FunctionDef):
             names = [arg.arg for arg in node.args.args]
-            names += [part.id for part in ast.walk(node) if isinstance(part, ast.Name) and isinstance(part.ctx, ast.Store)]
+            names += [part.id for part in ast.walk(node) if isinstance(part, ast.Name) and isinstance(part.ctx,
+                                                                                                      ast.Store)]
             found += [f"L15 {name} in {node.name}" for name in names if name in taken]
     return found
 
@@ -248,10 +249,12 @@ class Use(unittest.TestCase):
         codes = (
             "X = [[1]]", "X = {'a': []}", "X = f()", "X = 1\nX = 2", "f()", "X = 3 + 4", "if X:\n    pass",
             "from carpetkin.a import b\ndef f(b):\n    pass", "class A:\n    pass\ndef f():\n    A = 3",
-            "def f(x):\n    for y in x:\n        x.append(y)", "def f(x):\n    for k, y in enumerate(x):\n        x[k] = y",
+            "def f(x):\n    for y in x:\n        x.append(y)",
+            "def f(x):\n    for k, y in enumerate(x):\n        x[k] = y",
             "def f(x):\n    y = zip(x, x)", "def f(x):\n    return x.items()", "def f(x):\n    return set(x)",
             "def f(x):\n    for y in set(x):\n        pass", "def f(x):\n    return sorted(set(x), key=len)",
-            "def f(x):\n    return x is 3", "def f(x):\n    return x ** x", "X = 'a%b'", "X = '\\x41'", "def f(x: int):\n    pass",
+            "def f(x):\n    return x is 3", "def f(x):\n    return x ** x", "X = 'a%b'", "X = '\\x41'",
+            "def f(x: int):\n    pass",
             "def f(x):\n    try:\n        x()\n    except ValueError:\n        pass", "def f(x):\n    return f'{x.y}'",
             "def f(x):\n    a, b = x", "def f(x):\n    g = len", "def f(x):\n    return int(x, base=3)",
         )

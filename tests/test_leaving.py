@@ -6,7 +6,8 @@ from carpetkin.movements import all_movements, moved, taken_back, then
 from carpets import DRAWN, carpets_of, some_carpets
 
 STAY = ("stay", 0, 0)
-TRIED = (*DRAWN, *carpets_of(2, "abc"), *some_carpets(3, "ab", 30), *some_carpets(4, "ab", 10), *some_carpets(5, "ab", 3))
+TRIED = (*DRAWN, *carpets_of(2, "abc"), *some_carpets(3, "ab", 30), *some_carpets(4, "ab", 10), *some_carpets(5, "ab",
+                                                                                                              3))
 
 
 class Leaves(unittest.TestCase):

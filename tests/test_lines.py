@@ -4,9 +4,12 @@ from carpetkin.lines import movement_of, movements_of, shown_movement, shown_mov
 from carpetkin.movements import all_movements
 
 NO_MOVEMENTS = (
-    "", "-", ".", "..", "turn", "turn.", "turn.0", "turn.0.", "turn.0.0.", ".turn.0.0", "turn.0.0.0", "turn..0", "turn.0..0",
-    "turn0.0", "turn.0,0", "turn,0,0", "turn 0 0", " turn.0.0", "turn.0.0 ", "turn. 0.0", "turn.00.0", "turn.0.00", "turn.01.0",
-    "turn.0.01", "turn.-1.0", "turn.0.-1", "turn.+1.0", "turn.a.0", "turn.0.a", "Turn.0.0", "turns.0.0", "0.0.turn", "mirror.0.0",
+    "", "-", ".", "..", "turn", "turn.", "turn.0", "turn.0.", "turn.0.0.", ".turn.0.0", "turn.0.0.0", "turn..0",
+    "turn.0..0",
+    "turn0.0", "turn.0,0", "turn,0,0", "turn 0 0", " turn.0.0", "turn.0.0 ", "turn. 0.0", "turn.00.0", "turn.0.00",
+    "turn.01.0",
+    "turn.0.01", "turn.-1.0", "turn.0.-1", "turn.+1.0", "turn.a.0", "turn.0.a", "Turn.0.0", "turns.0.0", "0.0.turn",
+    "mirror.0.0",
     ".0.0", "turn.0.0\n", "turn.0.1e0", "turn.0.0x", "turn.0.99999", "turn.0." + "9" * 5000,
 )
 
@@ -43,7 +46,8 @@ class Movements(unittest.TestCase):
         self.assertEqual(shown_movements([]), "-")
         self.assertEqual(movements_of(3, "-"), [])
         self.assertEqual(movements_of(3, ",".join(["turn.0.2"] * 13)), [("turn", 0, 2)] * 13)
-        for word in ("", ",", "--", "-,-", "stay.0.0,", ",stay.0.0", "stay.0.0,,stay.0.0", "stay.0.0, stay.0.0", "stay.0.0;stay.0.0",
+        for word in ("", ",", "--", "-,-", "stay.0.0,", ",stay.0.0", "stay.0.0,,stay.0.0", "stay.0.0, stay.0.0",
+                     "stay.0.0;stay.0.0",
                      "-,stay.0.0", "stay.0.0,-", " -", "- "):
             with self.subTest(word):
                 self.assertIsNone(movements_of(3, word))
@@ -62,7 +66,8 @@ class Numbers(unittest.TestCase):
             self.assertEqual(written_number(str(number)), number)
 
     def test_what_writes_none(self):
-        for word in ("", "00", "01", "001", "0001", "012", "10000", "99999", "00000", "9" * 5000, "-1", "+1", " 1", "1 ", "1.0", "a",
+        for word in ("", "00", "01", "001", "0001", "012", "10000", "99999", "00000", "9" * 5000, "-1", "+1", " 1",
+                     "1 ", "1.0", "a",
                      "1a", "a1", "0x1", "1e3", "1_0", "-0", "\n1", "1\n", "."):
             with self.subTest(word):
                 self.assertIsNone(written_number(word))

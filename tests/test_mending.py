@@ -24,7 +24,8 @@ def wishes_of(side):
     return wishes
 
 
-CARPETS = (*DRAWN[:17], *some_carpets(2, "abc", 8), *some_carpets(3, "abc", 8), *some_carpets(4, "ab", 3), *some_carpets(8, "abc", 1))
+CARPETS = (*DRAWN[:17], *some_carpets(2, "abc", 8), *some_carpets(3, "abc", 8), *some_carpets(4, "ab", 3),
+           *some_carpets(8, "abc", 1))
 
 
 class Mended(unittest.TestCase):
@@ -52,7 +53,8 @@ class Mended(unittest.TestCase):
         self.assertEqual(mended(("ab", "cb"), [("stay", 1, 0)]),
                          (("ab", "ab"), [(1, 0)], [([(0, 0), (1, 0)], "a", 1), ([(0, 1), (1, 1)], "b", 2)]))
         self.assertEqual(mended(("ab", "ab"), []),
-                         (("ab", "ab"), [], [([(0, 0)], "a", 1), ([(0, 1)], "b", 1), ([(1, 0)], "a", 1), ([(1, 1)], "b", 1)]))
+                         (("ab", "ab"), [], [([(0, 0)], "a", 1), ([(0, 1)], "b", 1), ([(1, 0)], "a", 1), ([(1, 1)],
+                                                                                                          "b", 1)]))
         self.assertEqual(mended(("q",), [("turn", 0, 0)]), (("q",), [], [([(0, 0)], "q", 1)]))
         self.assertEqual(mended(("ba", "cc"), all_movements(2))[:2], (("cc", "cc"), [(0, 0), (0, 1)]))
 
@@ -94,10 +96,12 @@ class MendedTowards(unittest.TestCase):
         self.assertEqual(mended_towards(("ba", "ab"), ("bb", "bb"), wish)[:2], (("bb", "bb"), [(0, 1), (1, 0)]))
         self.assertEqual(mended_towards(("ba", "ab"), ("bb", "aa"), wish)[:2], (("bb", "aa"), [(0, 1), (1, 1)]))
         self.assertEqual(mended_towards(("ba", "cb"), ("zz", "cc"), wish)[:2], (("aa", "cc"), [(0, 0), (1, 1)]))
-        self.assertEqual(mended_towards(("aaa", "aba", "aaa"), ("bbb",) * 3, [("stay", 0, 1)])[0], ("aaa", "aaa", "aaa"))
+        self.assertEqual(mended_towards(("aaa", "aba", "aaa"), ("bbb",) * 3, [("stay", 0, 1)])[0], ("aaa", "aaa",
+                                                                                                    "aaa"))
 
     def test_the_others_colour_where_as_many_have_it_else_the_least(self):
-        for carpet, other in itertools.product((*some_carpets(2, "abc", 12), *some_carpets(3, "abc", 6)), carpets_of(2, "abc")):
+        for carpet, other in itertools.product((*some_carpets(2, "abc", 12), *some_carpets(3, "abc", 6)),
+                                               carpets_of(2, "abc")):
             if len(carpet) == 3:
                 other = tuple(row + row[0] for row in other + other[:1])
             side = len(carpet)
@@ -126,7 +130,9 @@ class MendedTowards(unittest.TestCase):
     def test_no_wish(self):
         other = ("ab", "ab")
         good = ("stay", 1, 0)
-        for wish, place in (([("stay", 0, 1)], 0), ([good, ("stay", 0, 1)], 1), ([good, good, ("turn", 0, 0), ("stay", 0, 1)], 2),
+        for wish, place in (([("stay", 0, 1)], 0), ([good, ("stay", 0, 1)], 1), ([good, good, ("turn", 0, 0), ("stay",
+                                                                                                               0, 1)],
+                                                                                                               2),
                             ([good] * 11 + [("stay", 1, 1)], 11)):
             with self.assertRaises(NoWish) as refused:
                 mended_towards(("aa", "aa"), other, wish)

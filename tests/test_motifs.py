@@ -16,7 +16,8 @@ EACH = (
     (Down(3, TWO), "down(3, [ab/cd])"),
     (Dyed("a", "z", ROSE), "dye(a, z, rose)"),
     *[(Turned(way, ROSE), way + "(rose)") for way in WAYS],
-    (Beside((Turned("turn", Across(2, ROSE)), Dyed("a", "a", TWO))), "beside(turn(across(2, rose)), dye(a, a, [ab/cd]))"),
+    (Beside((Turned("turn", Across(2, ROSE)), Dyed("a", "a", TWO))),
+     "beside(turn(across(2, rose)), dye(a, a, [ab/cd]))"),
 )
 
 

@@ -9,7 +9,8 @@ from carpetkin.rounds import count_of
 from carpets import carpets_of
 
 LETTERS = "abcdefghijklmnopqrstuvwxyz"
-LET_BY = [(1, k) for k in range(1, 27)] + [(2, 1), (2, 2), (2, 3), (2, 4), (3, 1), (3, 2)] + [(k, 1) for k in range(4, 9)]
+LET_BY = [(1, k) for k in range(1, 27)] + [(2, 1), (2, 2), (2, 3), (2, 4), (3, 1), (3, 2)] + [(k, 1) for k in range(4,
+                                                                                                                    9)]
 TOO_LARGE = ((2, 5), (2, 26), (3, 3), (3, 26), (4, 2), (8, 2), (8, 26))
 NO_NUMBERS = (-1, True, False, "0", "", None, 0.0, 1.5, [0], (), {}, object(), b"0", 10 ** 40, -10 ** 40)
 
@@ -17,7 +18,8 @@ NO_NUMBERS = (-1, True, False, "0", "", None, 0.0, 1.5, [0], (), {}, object(), b
 class AllForms(unittest.TestCase):
     def test_by_hand(self):
         self.assertEqual(all_forms(1, 3), [("a",), ("b",), ("c",)])
-        self.assertEqual(all_forms(2, 2), [("aa", "aa"), ("aa", "ab"), ("aa", "bb"), ("ab", "ba"), ("ab", "bb"), ("bb", "bb")])
+        self.assertEqual(all_forms(2, 2), [("aa", "aa"), ("aa", "ab"), ("aa", "bb"), ("ab", "ba"), ("ab", "bb"),
+                                           ("bb", "bb")])
         self.assertEqual(all_forms(8, 1), [("a" * 8,) * 8])
 
     def test_all_least_forms_sorted_as_many_as_the_count(self):
@@ -55,7 +57,8 @@ class Numbers(unittest.TestCase):
                     self.assertEqual(number_of(moved(carpet, movement), colours), number)
 
     def test_no_colour(self):
-        for carpet, colours, colour in ((("b",), 1, "b"), (("zc", "ab"), 2, "c"), (("zy", "xa"), 3, "x"), (("z",), 25, "z"),
+        for carpet, colours, colour in ((("b",), 1, "b"), (("zc", "ab"), 2, "c"), (("zy", "xa"), 3, "x"), (("z",), 25,
+                                                                                                           "z"),
                                         (("cbb", "bab", "bbb"), 1, "b")):
             with self.assertRaises(NoColour) as refused:
                 number_of(carpet, colours)

@@ -52,14 +52,16 @@ class ReadMotifs(unittest.TestCase):
         for name in ("a", "abcdefgh", "let", "again", "knot", "stay", "turns", "tur", "dyes", "besides"):
             self.assertEqual(read_motif(name).text(), name)
             self.assertEqual(read_motif(f"turn({name})").text(), f"turn({name})")
-        for name in (*WORDS, "abcdefghi", "", "A", "Rose", "ro se", "rose1", "1", "ro-se", "stay(a)", "let(a)", "rose(a)"):
+        for name in (*WORDS, "abcdefghi", "", "A", "Rose", "ro se", "rose1", "1", "ro-se", "stay(a)", "let(a)",
+                     "rose(a)"):
             with self.subTest(name):
                 self.assertIsNone(read_motif(name))
                 self.assertIsNone(read_motif(f"turn({name})"))
                 self.assertIsNone(read_motif(f"beside(a, {name})"))
 
     def test_cloths(self):
-        for cloth in ("", "/", "a/", "/a", "ab/c", "A", "a b", "a1", "a" * 25, "/".join("a" * 25), "[a]", "a]", "[a", "a,b"):
+        for cloth in ("", "/", "a/", "/a", "ab/c", "A", "a b", "a1", "a" * 25, "/".join("a" * 25), "[a]", "a]", "[a",
+                      "a,b"):
             with self.subTest(cloth):
                 self.assertIsNone(read_motif("[" + cloth + "]"))
         for text in ("[a", "a]", "[]", "[", "]", "[a]]", "[[a]", "[a][b]", "[a]b", "b[a]"):
@@ -95,7 +97,8 @@ class ReadMotifs(unittest.TestCase):
                 self.assertIsNone(read_motif(f"dye(a, {one}, rose)"))
 
     def test_blanks(self):
-        for text in ("beside(a, b)", "across(3, a)", "down(3, [a/b])", "dye(a, b, c)", "turn(a)", "above(a, turn(b), c)"):
+        for text in ("beside(a, b)", "across(3, a)", "down(3, [a/b])", "dye(a, b, c)", "turn(a)",
+                     "above(a, turn(b), c)"):
             self.assertIsNotNone(read_motif(text))
             for k in range(len(text) + 1):
                 with self.subTest((text, k)):
@@ -106,7 +109,8 @@ class ReadMotifs(unittest.TestCase):
             self.assertIsNone(read_motif(text.replace(", ", ",\n") if ", " in text else text + "\n"))
 
     def test_left_over_signs(self):
-        for text in ("a,", "a, b", "turn(a))", "turn(a)b", "turn(a", "turn((a))", "(a)", "()", "beside(a, b), c", "turn()"):
+        for text in ("a,", "a, b", "turn(a))", "turn(a)b", "turn(a", "turn((a))", "(a)", "()", "beside(a, b), c",
+                     "turn()"):
             with self.subTest(text):
                 self.assertIsNone(read_motif(text))
 
@@ -202,10 +206,12 @@ class ReadPrograms(unittest.TestCase):
 
     def test_the_first_row_that_is_none(self):
         good = ["let a = [a]", "again 2 a = a", "let b = turn(a)", "knot b"]
-        bad = ("", " ", "let", "let a", "let a =", "let a = ", "let a=[a]", "let a = [a] ", " let a = [a]", "let  a = [a]",
+        bad = ("", " ", "let", "let a", "let a =", "let a = ", "let a=[a]", "let a = [a] ", " let a = [a]",
+               "let  a = [a]",
                "let a  = [a]", "let a =  [a]", "Let a = [a]", "let a = [a", "again a = [a]", "again 2 = [a]",
                "again 2a = [a]", "again 2  a = [a]", "again a 2 = [a]", "again 2 a b = [a]", "again  2 a = [a]",
-               "knot", "knot ", "knot  b", "knot b ", "knot = b", "knot a = b", "b", "let a = b = c", "stay a = [a]", "let a = [a]\r")
+               "knot", "knot ", "knot  b", "knot b ", "knot = b", "knot a = b", "b", "let a = b = c", "stay a = [a]",
+               "let a = [a]\r")
         for place in range(4):
             for row in bad:
                 rows = list(good)

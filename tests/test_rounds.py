@@ -81,7 +81,8 @@ class LeftBy(unittest.TestCase):
             carpets = carpets_of(side, LETTERS[:colours])
             movements = all_movements(side)
             for k in range(0, len(movements), 3):
-                for wish in ([movements[k]], [movements[k], movements[k // 2]], [movements[k], movements[-1], movements[k]]):
+                for wish in ([movements[k]], [movements[k], movements[k // 2]], [movements[k], movements[-1],
+                                                                                 movements[k]]):
                     many = sum(all(leaves(carpet, movement) for movement in wish) for carpet in carpets)
                     self.assertEqual(left_by(side, colours, wish), many)
 

@@ -66,7 +66,8 @@ class Woven(unittest.TestCase):
         self.assertEqual(read_weaving(shown_weaving(weaving)), weaving)
 
     def test_by_trying_all(self):
-        for rows, many in ((("a", "b"), 6), (("aa", "ab", "ba"), 4), (("aab", "aba"), 4), (("aaaa", "abab", "abba"), 3)):
+        for rows, many in ((("a", "b"), 6), (("aa", "ab", "ba"), 4), (("aab", "aba"), 4), (("aaaa", "abab", "abba"),
+                                                                                           3)):
             for k in range(1, many + 1):
                 for cloth in itertools.product(rows, repeat=k):
                     self.check(cloth, min(plain_weaving_cost(weaving) for weaving in all_weavings(cloth)))
@@ -115,7 +116,8 @@ class Written(unittest.TestCase):
             ([("rows", 24, [("again", 2, AB)])], "[(a b)2]24"),
             ([("rows", 1, AB), ("rows", 3, BB)], "[a b] [b2]3"),
             ([("again", 2, [("rows", 1, AB)])], "{[a b]}2"),
-            ([("rows", 1, BB), ("again", 3, [("again", 2, [("rows", 2, AB)]), ("rows", 1, BB)])], "[b2] {{[a b]2}2 [b2]}3"),
+            ([("rows", 1, BB), ("again", 3, [("again", 2, [("rows", 2, AB)]), ("rows", 1, BB)])],
+             "[b2] {{[a b]2}2 [b2]}3"),
         ):
             with self.subTest(text):
                 self.assertEqual(shown_weaving(weaving), text)
@@ -135,23 +137,30 @@ class Written(unittest.TestCase):
             self.assertIsInstance(refused.exception, CarpetError)
 
     def test_none(self):
-        for text in ("", " ", "a", "(a)2", "[]", "[]2", "[ ]", "[a]1", "[a]0", "[a]01", "[a]02", "{[a]}", "{[a]}1", "{[a]}0",
-                     "{[a]}02", "{}2", "{ }2", "{a}2", "{[]}2", " [a]", "[a] ", "[a]  [b]", "[a][b]", "[a]2[b]", "[a] 2",
-                     "[ a]", "[a ]", "{ [a]}2", "{[a] }2", "{[a]} 2", "{[a]}2{[a]}2", "[a", "a]", "[[a]]", "{[a]", "[a]}2",
-                     "{[a]2", "{[a)}2", "([a])2", "[{a}2]", "[a1]", "[(a)1]", "[()2]", "[a/b]", "[a] b", "[A]", "[a]\n", "\n",
+        for text in ("", " ", "a", "(a)2", "[]", "[]2", "[ ]", "[a]1", "[a]0", "[a]01", "[a]02", "{[a]}", "{[a]}1",
+                     "{[a]}0",
+                     "{[a]}02", "{}2", "{ }2", "{a}2", "{[]}2", " [a]", "[a] ", "[a]  [b]", "[a][b]", "[a]2[b]",
+                     "[a] 2",
+                     "[ a]", "[a ]", "{ [a]}2", "{[a] }2", "{[a]} 2", "{[a]}2{[a]}2", "[a", "a]", "[[a]]", "{[a]",
+                     "[a]}2",
+                     "{[a]2", "{[a)}2", "([a])2", "[{a}2]", "[a1]", "[(a)1]", "[()2]", "[a/b]", "[a] b", "[A]",
+                     "[a]\n", "\n",
                      "{[a]]2", "[a]-1", "[a]x", "[a],[b]", "2", "]", "}", "}2"):
             self.refused(text)
 
     def test_rows_of_unlike_lengths(self):
-        for text in ("[a] [b2]", "[a b] [a]", "{[a] [b2]}2", "[a2] {[a]}2", "{{[a]}2 [a b]}2", "[a] [a] [a2]", "[(a b)2] [a3]"):
+        for text in ("[a] [b2]", "[a b] [a]", "{[a] [b2]}2", "[a2] {[a]}2", "{{[a]}2 [a b]}2", "[a] [a] [a2]",
+                     "[(a b)2] [a3]"):
             self.refused(text)
         for text in ("[a2] [a b]", "[(a b)2] [a4]", "{[a2] [(a)2]}2"):
             self.assertEqual(shown_weaving(read_weaving(text)), text)
 
     def test_24_and_25_rows_and_knots(self):
-        for text in ("[a]24", "{[a]}24", "{[a]2 [b]}8", "[a]12 {[b]3}4", "[a24]24", "{{[a]2}3}4", " ".join(["[a]"] * 24)):
+        for text in ("[a]24", "{[a]}24", "{[a]2 [b]}8", "[a]12 {[b]3}4", "[a24]24", "{{[a]2}3}4",
+                     " ".join(["[a]"] * 24)):
             self.assertEqual(len(unwoven(read_weaving(text))), 24)
-        for text in ("[a]25", "{[a]}25", "{[a]2 [b]}8 [a]", "[a] [b]24", "{{[a]2}3}5", "[a25]", "[(a b)13]", "[a]" + "9" * 5000,
+        for text in ("[a]25", "{[a]}25", "{[a]2 [b]}8 [a]", "[a] [b]24", "{{[a]2}3}5", "[a25]", "[(a b)13]",
+                     "[a]" + "9" * 5000,
                      "{[a]}" + "9" * 5000, "[a" + "9" * 5000 + "]", " ".join(["[a]"] * 25), "{{{{{[a]}2}2}2}2}2"):
             self.refused(text)
 

@@ -88,6 +88,14 @@ class Grown(unittest.TestCase):
         self.assertEqual(grown(2, [("stay", 0, 1)], [((0, 0), "x"), ((1, 0), "y")]), ("xx", "yy"))
         self.assertEqual(grown(2, [], [((0, 0), "a"), ((0, 1), "b"), ((1, 0), "c"), ((1, 1), "d")]), ("ab", "cd"))
 
+    def test_a_seed_at_any_place_of_its_circle(self):
+        for side, movements in LISTS:
+            found = circles(side, movements)
+            colours = ["abcdefgh"[k % 8] for k in range(len(found))]
+            first = grown(side, movements, [(circle[0], x) for circle, x in zip(found, colours)])
+            last = grown(side, movements, [(circle[-1], x) for circle, x in zip(found, colours)])
+            self.assertEqual(first, last)
+
     def test_each_choice_is_left_as_it_is(self):
         chance = random.Random(4)
         for side, movements in LISTS:
